@@ -1,0 +1,1 @@
+"""Loosemirrors: rows of mirrors whose places nobody knows."""
