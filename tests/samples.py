@@ -1,6 +1,9 @@
 """Values of every kind that a caller may hand in."""
 
+from loosemirrors.books import Book
+from loosemirrors.drawings import Drawing
 from loosemirrors.errors import MirrorError
+from loosemirrors.motions import table
 from loosemirrors.ratios import Ratio
 from loosemirrors.scripts import Script
 
@@ -21,6 +24,8 @@ def all_values():
         0, 1, -1, 2, 25, LONG, -LONG, True, False, None,
         "", "a", "a b", "3", "no name", "\n", (), (1,), (1, 2), (True, None), [], [1, "a"], {}, {"a": [1]}, {1: None},
         Ratio(0), Ratio(1), Ratio(-1, 2), Script(""), Script("a b"), MirrorError(1), nested(30),
+        Book("peg p"), Drawing(Book("peg p"), ((0, 1),)), table(Book("mirror a"), Script("a")), ("same",),
+        ("nothing", 1),
     ]
 
 

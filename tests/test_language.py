@@ -1,10 +1,15 @@
 """The rules of the language, and of the interface, that a look at the files shows."""
 
 import ast
+import builtins
 import pathlib
 import re
 import unittest
 
+from loosemirrors.books import Book
+from loosemirrors.drawings import Drawing, draw
+from loosemirrors.kinds import kind
+from loosemirrors.motions import table
 from loosemirrors.ratios import Ratio
 from loosemirrors.scripts import Script
 
@@ -15,14 +20,34 @@ METHODS = {
     "ratios": {"Ratio": ("of", "divided", "__repr__", "__eq__", "__lt__", "__le__", "__gt__", "__ge__", "__neg__",
                          "__add__", "__radd__", "__sub__", "__rsub__", "__mul__", "__rmul__")},
     "scripts": {"Script": ("times", "__len__", "__mul__", "__invert__", "__repr__", "__eq__")},
+    "books": {"Book": ("told", "without", "__len__", "__contains__", "__getitem__", "__iter__", "__eq__")},
+    "motions": {"Motion": ("times", "at", "__len__", "__mul__", "__invert__", "__eq__")},
+    "drawings": {"Drawing": ("led", "__getitem__", "__iter__", "__eq__")},
 }
+
+# Of each file: the functions of the interface, with their parameters.
+FUNCTIONS = {
+    "motions": {"table": ["book", "script"]},
+    "drawings": {"draw": ["book"]},
+    "kinds": {"kind": ["book", "script"], "shows_kind": ["book", "script", "value"], "same": ["book", "one", "other"],
+              "shows_same": ["book", "one", "other", "value"]},
+}
+
+BUILTINS = (
+    "len range enumerate zip min max sum abs sorted reversed int str bool list tuple dict set isinstance ord repr any all "
+    "divmod ValueError TypeError KeyError IndexError NotImplemented property staticmethod"
+).split()
 
 LIBRARY = {
     "math": ("gcd", "lcm", "isqrt", "comb", "perm", "factorial"),
     "itertools": ("product", "combinations", "permutations"),
 }
-BARRED_WORDS = re.compile(r"\b(register|mro|elements|open|input|law|print|eval|exec|globals|locals|float)\b|_wall")
-BARRED_NODES = (ast.Global, ast.AsyncFunctionDef, ast.Await, ast.Div, ast.Import)
+BARRED_WORDS = re.compile(
+    r"\b(register|mro|elements|open|input|law|print|eval|exec|globals|locals|float|type|typing|enum|Enum|Flag|Generic)\b"
+    r"|_wall|Meta|metaclass=|dataclass|overload|contextmanager"
+)
+BARRED_NODES = (ast.Global, ast.AsyncFunctionDef, ast.Await, ast.Div, ast.Import, ast.Yield, ast.YieldFrom, ast.Lambda,
+                ast.GeneratorExp, ast.Set, ast.NamedExpr, ast.Match)
 
 
 def trees():
@@ -36,6 +61,13 @@ def bound(tree):
         if isinstance(node, ast.Assign):
             names.extend(target.id for target in node.targets)
     return names
+
+
+def is_plain(part):
+    """Whether a part of a file plainly is a number or a string."""
+    if isinstance(part, ast.Call):
+        return part.func.id in ("int", "str", "len")
+    return isinstance(part, ast.Constant)
 
 
 class Files(unittest.TestCase):
@@ -85,7 +117,56 @@ class Words(unittest.TestCase):
                         self.assertNotIsInstance(node.value, (float, complex, bytes))
 
 
+    def test_no_name_has_a_second_meaning(self):
+        """No parameter or variable is called as an import, a class or a builtin; no other builtins are read."""
+        for file, tree in trees().items():
+            taken = [alias.name for node in tree.body if isinstance(node, ast.ImportFrom) for alias in node.names]
+            taken += [node.name for node in tree.body if isinstance(node, ast.ClassDef)]
+            taken += [name for name in dir(builtins) if name != "_"]
+            known = taken + bound(tree)
+            for function in [node for node in ast.walk(tree) if isinstance(node, ast.FunctionDef)]:
+                told = [node.arg for node in ast.walk(function) if isinstance(node, ast.arg)]
+                names = [node for node in ast.walk(function) if isinstance(node, ast.Name)]
+                told += [node.id for node in names if isinstance(node.ctx, ast.Store)]
+                for name in told:
+                    with self.subTest(file=file, function=function.name, name=name):
+                        self.assertNotIn(name, taken)
+                for node in names:
+                    if node.id not in told:
+                        with self.subTest(file=file, function=function.name, name=node.id):
+                            self.assertIn(node.id, known)
+                            if node.id in dir(builtins):
+                                self.assertIn(node.id, BUILTINS)
+
+    def test_plain_arguments_where_order_matters(self):
+        """Beside a class with an order, sorted, min and max take plain numbers or strings alone."""
+        for file, tree in trees().items():
+            calls = [node for node in ast.walk(tree) if isinstance(node, ast.Call) and isinstance(node.func, ast.Name)]
+            for call in [node for node in calls if node.func.id in ("sorted", "min", "max")]:
+                with self.subTest(file=file, line=call.lineno):
+                    parts = [part.elt if isinstance(part, ast.ListComp) else part for part in call.args]
+                    self.assertTrue(any(is_plain(part) for part in parts))
+
+    def test_no_two_files_import_from_each_other(self):
+        found = {name: [node.module.split(".")[1] for node in tree.body
+                        if isinstance(node, ast.ImportFrom) and node.module.startswith("loosemirrors.")]
+                 for name, tree in trees().items()}
+        while found:
+            free = [name for name, imported in found.items() if not [other for other in imported if other in found]]
+            self.assertNotEqual(free, [], found)
+            found = {name: found[name] for name in found if name not in free}
+
+
 class Interface(unittest.TestCase):
+    def test_functions_stand_in_their_files(self):
+        found = trees()
+        for name, functions in FUNCTIONS.items():
+            told = {node.name: [arg.arg for arg in node.args.args] for node in found[name].body
+                    if isinstance(node, ast.FunctionDef)}
+            for function, parameters in functions.items():
+                with self.subTest(file=name, function=function):
+                    self.assertEqual(told[function], parameters)
+
     def test_classes_and_methods_stand_in_their_files(self):
         found = trees()
         for name, classes in METHODS.items():
@@ -102,6 +183,15 @@ class Interface(unittest.TestCase):
         one = Script("a b b")
         for made in (one, Script(""), one * one, ~one, one.times(2), one.plain):
             self.assertEqual(sorted(vars(made)), ["plain", "steps", "text"])
+        book = Book("mirror a\npeg p")
+        for made in (book, book.told("peg q"), book.without("p")):
+            self.assertLessEqual({"text", "names", "mirrors", "pegs", "loose"}, set(vars(made)))
+        drawing = Drawing(book, ((1, 0, 3), (0, 0)))
+        for made in (drawing, draw(book), kind(book, Script("a p"))[1]):
+            self.assertLessEqual({"book", "rows"}, set(vars(made)))
+        motion = table(book, Script("a p"))
+        for made in (motion, motion * motion, ~motion, motion.times(3)):
+            self.assertLessEqual({"book", "over", "sign", "powers", "terms"}, set(vars(made)))
 
 
 if __name__ == "__main__":
