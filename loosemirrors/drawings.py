@@ -12,13 +12,11 @@ class Drawing:
     """A book, and of each of its lines the row of numbers of its mirror or peg."""
 
     def __init__(self, book, rows):
-        if not are_rows(book, rows):
+        if not isinstance(rows, tuple) or len(rows) != len(book):
             raise BadRows(rows)
-        leads = {}
-        for line, row in zip(book.lines, rows):
-            leads[line.name] = lead_of(line.word, row)
-            if not is_told(line, leads[line.name], leads):
-                raise BadRows(rows)
+        leads = leads_of(book, rows)
+        if len(leads) < len(rows):
+            raise BadRows(rows)
         self.book = book
         self.rows = tuple([as_ratios(row) for row in rows])
         self.leads = leads
@@ -60,11 +58,17 @@ def lead_by(drawing, steps):
     return joined_leads([drawing.leads[name] for name in steps])
 
 
-def are_rows(book, rows):
-    """Whether a value has a row of numbers for each line of the book."""
-    if not isinstance(rows, tuple) or len(rows) != len(book.lines):
-        return False
-    return all([is_row_of(line.word, row) for line, row in zip(book.lines, rows)])
+def leads_of(book, rows):
+    """What names do by their rows, one for each line from the first one on, ahead of the first wrong row."""
+    leads = {}
+    for line, row in zip(book.lines, rows):
+        if not is_row_of(line.word, row):
+            return leads
+        lead = lead_of(line.word, row)
+        if not is_told(line, lead, leads):
+            return leads
+        leads[line.name] = lead
+    return leads
 
 
 def as_ratios(row):

@@ -75,3 +75,23 @@ def any_row(book, seed, most=24):
     """Any Script of names of the book."""
     chance = random.Random(seed)
     return Script(" ".join(chance.choice(book.names) for _ in range(chance.randint(0, most))))
+
+
+def any_claim(book, chance):
+    """Any claim of the book by its names; None where it has too few of these for what chance asks for."""
+    name = chance.choice(book.names)
+    mirrors = [other for other in book.mirrors if other != name]
+    pegs = [other for other in book.pegs if other != name]
+    if chance.random() < 0.2 and len(book.pegs) > 1:
+        return "even " + " ".join(chance.sample(book.pegs, 2) + chance.sample(book.pegs, 2))
+    row = " ".join(chance.choice(book.names) for _ in range(chance.randint(1, 6)))
+    word = "mirror" if name in book.mirrors else "peg"
+    forms = ["is"] if len(mirrors) < 2 or len(pegs) < 2 else ["is", "", "", ""]
+    if chance.choice(forms) == "is":
+        return f"{word} {name} is {row}"
+    one, other = chance.sample(mirrors, 2)
+    peg, more = chance.sample(pegs, 2)
+    rest = {"mirror": (f"through {peg}", f"along {one} through {peg}", f"across {one} through {peg}",
+                       f"from {one} in {other}"),
+            "peg": (f"on {one}", f"from {peg} in {one}", f"from {peg} about {more}", f"amid {peg} {more}")}
+    return f"{word} {name} {chance.choice(rest[word])}"

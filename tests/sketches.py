@@ -124,3 +124,47 @@ def chances(seed, most=9, under=4):
 def any_rows(text, seed, most=9, under=4):
     """Any rows of the book of this text, by names."""
     return rows_of(text, chances(seed, most, under))
+
+
+THREE_DOTS = ((Fraction(0), Fraction(0)), (Fraction(1), Fraction(0)), (Fraction(0), Fraction(1)))
+
+
+def do_alike(rows, steps, others):
+    """Whether two rows of names lead three dots that lie in no line, and so all dots, alike."""
+    return all(led(rows, steps, dot) == led(rows, others, dot) for dot in THREE_DOTS)
+
+
+def lies_on(dot, row):
+    return row[0] * dot[0] + row[1] * dot[1] == row[2]
+
+
+def square(one, other):
+    return (one[0] - other[0]) ** 2 + (one[1] - other[1]) ** 2
+
+
+def is_so(rows, claim):
+    """Whether a claim is so in a drawing by plain geometry."""
+    kind, name, *rest = claim.split(" ")
+    if kind == "even":
+        return square(rows[name], rows[rest[0]]) == square(rows[rest[1]], rows[rest[2]])
+    row, form = rows[name], rest[0]
+    if form == "is":
+        return do_alike(rows, [name], rest[1:])
+    if form == "on":
+        return lies_on(row, rows[rest[1]])
+    if form == "amid":
+        return row == middle(rows[rest[1]], rows[rest[2]])
+    if form == "from" and kind == "peg":
+        return row == reflected(rows[rest[3]], rows[rest[1]])
+    if form == "from":
+        return all(lies_on(reflected(rows[rest[3]], dot), row) for dot in two_dots_on(rows[rest[1]]))
+    if not lies_on(rows[rest[-1]], row):
+        return False
+    m, n, _ = rows[rest[1]] if form != "through" else row
+    return m * row[1] == n * row[0] if form != "across" else m * row[0] + n * row[1] == 0
+
+
+def plain_rows(drawing):
+    """The rows of a drawing by names, in Fractions."""
+    return {name: tuple(Fraction(number.number, number.under) for number in drawing[name])
+            for name in drawing.book.names}

@@ -6,7 +6,9 @@ import pathlib
 import re
 import unittest
 
+from loosemirrors.boards import Board
 from loosemirrors.books import Book
+from loosemirrors.desk import Desk
 from loosemirrors.drawings import Drawing, draw
 from loosemirrors.kinds import kind
 from loosemirrors.motions import table
@@ -23,6 +25,9 @@ METHODS = {
     "books": {"Book": ("told", "without", "__len__", "__contains__", "__getitem__", "__iter__", "__eq__")},
     "motions": {"Motion": ("times", "at", "__len__", "__mul__", "__invert__", "__eq__")},
     "drawings": {"Drawing": ("led", "__getitem__", "__iter__", "__eq__")},
+    "boards": {"Board": ("put", "step", "lay", "wipe", "kind", "judged", "undo", "redo", "trial", "keep", "tried", "copy",
+                         "__len__", "__contains__", "__eq__")},
+    "desk": {"Desk": ("say",)},
 }
 
 # Of each file: the functions of the interface, with their parameters.
@@ -31,6 +36,14 @@ FUNCTIONS = {
     "drawings": {"draw": ["book"]},
     "kinds": {"kind": ["book", "script"], "shows_kind": ["book", "script", "value"], "same": ["book", "one", "other"],
               "shows_same": ["book", "one", "other", "value"]},
+    "claims": {"judged": ["book", "claim"], "shows_judged": ["book", "claim", "value"]},
+    "least": {"nothings": ["book", "names", "most"], "shortest": ["book", "names", "script"],
+              "shows_shortest": ["book", "names", "script", "value"]},
+    "looks": {"left": ["book", "names", "most", "looks"], "look": ["book", "names", "most", "looks"],
+              "shows_look": ["book", "names", "most", "looks", "value"]},
+    "needing": {"loosened": ["book", "name"], "needed": ["book", "claim"], "core": ["book", "claim"]},
+    "choosing": {"cheapest": ["book", "offers", "wishes"]},
+    "journals": {"journal": ["board"], "read_journal": ["text"]},
 }
 
 BUILTINS = (
@@ -116,6 +129,27 @@ class Words(unittest.TestCase):
                     if isinstance(node, ast.Constant):
                         self.assertNotIsInstance(node.value, (float, complex, bytes))
 
+    def test_ends_of_blocks_do_plain_things_alone(self):
+        """Rows of __exit__ are assignments of attributes, and tests of them by is None."""
+        for file, tree in trees().items():
+            for function in ast.walk(tree):
+                if isinstance(function, ast.FunctionDef) and function.name == "__exit__":
+                    with self.subTest(file=file):
+                        for node in ast.walk(function):
+                            self.assertNotIsInstance(node, (ast.Call, ast.BinOp, ast.Subscript, ast.Return, ast.Raise))
+                            if isinstance(node, ast.Compare):
+                                self.assertEqual([type(sign) in (ast.Is, ast.IsNot) for sign in node.ops], [True])
+
+    def test_no_name_is_a_method_and_an_attribute(self):
+        """No attribute of an object has the name of a method of any class."""
+        methods, attributes = set(), set()
+        for tree in trees().values():
+            for node in ast.walk(tree):
+                if isinstance(node, ast.ClassDef):
+                    methods |= {part.name for part in node.body if isinstance(part, ast.FunctionDef)}
+                if isinstance(node, ast.Attribute) and isinstance(node.ctx, ast.Store):
+                    attributes.add(node.attr)
+        self.assertEqual(methods & attributes, set())
 
     def test_no_name_has_a_second_meaning(self):
         """No parameter or variable is called as an import, a class or a builtin; no other builtins are read."""
@@ -128,6 +162,7 @@ class Words(unittest.TestCase):
                 told = [node.arg for node in ast.walk(function) if isinstance(node, ast.arg)]
                 names = [node for node in ast.walk(function) if isinstance(node, ast.Name)]
                 told += [node.id for node in names if isinstance(node.ctx, ast.Store)]
+                told += [node.name for node in ast.walk(function) if isinstance(node, ast.ExceptHandler) and node.name]
                 for name in told:
                     with self.subTest(file=file, function=function.name, name=name):
                         self.assertNotIn(name, taken)
@@ -192,6 +227,11 @@ class Interface(unittest.TestCase):
         motion = table(book, Script("a p"))
         for made in (motion, motion * motion, ~motion, motion.times(3)):
             self.assertLessEqual({"book", "over", "sign", "powers", "terms"}, set(vars(made)))
+        board = Board(drawing)
+        board.step("a")
+        for made in (board, board.copy(), Desk("peg p\nrow p 1 1\ndeeds").board):
+            self.assertLessEqual({"first", "drawing", "row", "dots", "done"}, set(vars(made)))
+        self.assertIn("board", vars(Desk("peg p\nrow p 1 1\ndeeds")))
 
 
 if __name__ == "__main__":
